@@ -46,7 +46,7 @@ func TestCommitGets(t *testing.T) {
 	d.snap(23, 7, 61, 4103, 20)
 }
 
-// P15.3: who pays all that is there, with the charge, has nothing then; whose charge is nothing has paid nothing more.
+// P15.3, P15.6: who pays all that is there, with the charge, has nothing then; whose charge is nothing has paid nothing, of which there is no entry.
 func TestCommitAllAndNoCharge(t *testing.T) {
 	d := having(t, 0.5, 7, 30, 0, 1, 4095, 3)
 	d.hold(5, pays(1, 7, 20), api.OK)
@@ -56,7 +56,7 @@ func TestCommitAllAndNoCharge(t *testing.T) {
 		d.commit(8, id, api.OK)
 	}
 	d.close(8, api.OK)
-	d.snap(8, 0, 0, 7, 0, 4095, 0, 4096, 0, 4103, 10, 8191, 1)
+	d.snap(8, 0, 0, 7, 0, 4095, 0, 4103, 10, 8191, 1)
 	d.has(0, 8, 0)
 }
 

@@ -77,7 +77,7 @@ func (w *town) open() {
 func (w *town) begin() {
 	from := w.r.IntN(9)
 	to := (from + 1 + w.r.IntN(8)) % 9
-	n := oneOf(w.r, 1+w.r.Int64N(2000), 1+w.r.Int64N(2000), 1+w.r.Int64N(most)>>w.r.IntN(50))
+	n := oneOf(w.r, 1+w.r.Int64N(2000), 1+w.r.Int64N(2000), 1+w.r.Int64N(4), 1+w.r.Int64N(4), 1+w.r.Int64N(most)>>w.r.IntN(50))
 	w.moves = append(w.moves, &transfer{id: len(w.moves) + 1, accounts: [2]int{from, to}, n: n})
 }
 
@@ -183,7 +183,7 @@ func (w *town) book(at int64) *ledger.Book {
 	return b
 }
 
-// snap is what all vaults tell of a time, by rising keys, without those that have paid nothing.
+// snap is what all vaults tell of a time: of one alone as it is told, of more by rising keys.
 func (w *town) snap(at int64) []api.Entry {
 	w.Helper()
 	var all []api.Entry
@@ -194,9 +194,22 @@ func (w *town) snap(at int64) []api.Entry {
 		}
 		all = append(all, l...)
 	}
-	all = slices.DeleteFunc(all, func(e api.Entry) bool { return e.Key >= 4096 && e.V == 0 })
-	slices.SortFunc(all, func(x, y api.Entry) int { return cmp.Compare(x.Key, y.Key) })
+	if len(w.vaults) > 1 {
+		slices.SortFunc(all, func(x, y api.Entry) int { return cmp.Compare(x.Key, y.Key) })
+	}
 	return all
+}
+
+// kinds is how many transfers were committed that were charged, and that weren't.
+func (w *town) kinds() (k kindsOfMoves) {
+	paid := map[int]int64{}
+	p := newPlain(w.rate)
+	for _, x := range w.committed() {
+		charge := p.fee(x.n)
+		k.count(charge, paid[x.accounts[0]])
+		paid[x.accounts[0]] += charge
+	}
+	return k
 }
 
 // checkAt holds what all vaults tell of a time against a book: all entries, each account, and what they come to.
@@ -232,7 +245,8 @@ func TestTransfersAreABooksMoves(t *testing.T) {
 	r := rand.New(rand.NewPCG(15, 5))
 	moved, across, atOnce := 0, 0, 0
 	refuse := map[api.Errno]int{}
-	for round := range 90 {
+	var all kindsOfMoves
+	for round := range 270 {
 		base := bases()[round%len(bases())]
 		w := newTown(t, r, 1+round%3, someRates()[round%len(someRates())], base)
 		for range 12 {
@@ -275,6 +289,10 @@ func TestTransfersAreABooksMoves(t *testing.T) {
 		for err, n := range w.refuse {
 			refuse[err] += n
 		}
+		all.add(w.kinds())
+	}
+	if all.charged < 200 || all.never < 200 || all.notNow < 80 {
+		t.Error("too few", all)
 	}
 	if moved < 500 || across < 250 || atOnce < 8 || refuse[api.ErrVaultShort] < 50 || refuse[api.ErrVaultFull] < 50 || refuse[api.ErrVaultBusy] < 50 || refuse[api.ErrVaultNone] < 50 {
 		t.Error("too few", moved, across, atOnce, refuse)

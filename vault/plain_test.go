@@ -8,13 +8,12 @@ import (
 	"moiety/api"
 )
 
-// happened is what happened to an account at a stamp: what it has more, or less, and, if it paid, what it has paid more.
+// happened is what happened to an account at a stamp: what it has more, or less, and what it has paid more.
 type happened struct {
 	t         int64
 	account   int
 	has, paid int64
 	opens     bool
-	pays      bool
 }
 
 // plain is a vault as the chapter's words have it: all that happened, and all that was asked for and not refused, of which everything is found anew whenever it is asked for.
@@ -66,14 +65,14 @@ func (p *plain) fee(n int64) int64 {
 	return new(big.Int).Div(exact.Num(), exact.Denom()).Int64()
 }
 
-// at is what an account has at a time, or has paid, and whether it was opened, and paid, by then.
-func (p *plain) at(account int, t int64) (has, paid int64, opened, pays bool) {
+// at is what an account has, and has paid, at a time, and whether it was opened by then.
+func (p *plain) at(account int, t int64) (has, paid int64, opened bool) {
 	for _, x := range p.done {
 		if x.account == account && x.t <= t {
-			has, paid, opened, pays = has+x.has, paid+x.paid, opened || x.opens, pays || x.pays
+			has, paid, opened = has+x.has, paid+x.paid, opened || x.opens
 		}
 	}
-	return has, paid, opened, pays
+	return has, paid, opened
 }
 
 func (p *plain) stampFault(t int64) api.Errno {
@@ -123,7 +122,7 @@ func (p *plain) Hold(t int64, x api.Part) api.Errno {
 	if x.N <= 0 || x.N > 1000000000000000 {
 		return api.ErrVaultAmount
 	}
-	has, _, opened, _ := p.at(x.Account, end)
+	has, _, opened := p.at(x.Account, end)
 	if !opened {
 		return api.ErrVaultNone
 	}
@@ -166,7 +165,7 @@ func (p *plain) Commit(t int64, id int) api.Errno {
 	h := p.parts[id]
 	x := happened{t: t, account: h.Part.Account, has: h.Part.N}
 	if h.Part.Pays {
-		x.has, x.paid, x.pays = -h.Part.N-h.Fee, h.Fee, true
+		x.has, x.paid = -h.Part.N-h.Fee, h.Fee
 	}
 	p.done = append(p.done, x)
 	p.commits[id] = t
@@ -232,7 +231,7 @@ func (p *plain) Has(account int, at int64) (int64, api.Errno) {
 	if err := p.timeFault(at); err != api.OK {
 		return 0, err
 	}
-	has, _, opened, _ := p.at(account, at)
+	has, _, opened := p.at(account, at)
 	if !opened {
 		return 0, api.ErrVaultNone
 	}
@@ -245,11 +244,11 @@ func (p *plain) Snap(at int64) ([]api.Entry, api.Errno) {
 	}
 	var all, paid []api.Entry
 	for _, account := range p.accounts() {
-		has, n, opened, pays := p.at(account, at)
+		has, n, opened := p.at(account, at)
 		if opened {
 			all = append(all, api.Entry{Key: account, V: has})
 		}
-		if pays {
+		if n != 0 {
 			paid = append(paid, api.Entry{Key: 4096 + account, V: n})
 		}
 	}
